@@ -1,0 +1,32 @@
+"""What all other modules share: kinds of things, asked of anything, and tuples."""
+
+
+def is_whole(thing):
+    """Whether it is a whole number."""
+    # To Python True is an int; here a truth is no number.
+    return isinstance(thing, int) and not isinstance(thing, bool)
+
+
+def is_count(thing):
+    """Whether it is a whole number from 0."""
+    return is_whole(thing) and thing >= 0
+
+
+def is_between(thing, low, high):
+    """Whether it is a whole number from low to high."""
+    return is_whole(thing) and low <= thing <= high
+
+
+def is_tuple_of(thing, length):
+    """Whether it is a tuple of so many things."""
+    return isinstance(thing, tuple) and len(thing) == length
+
+
+def rises(things):
+    """Whether each thing of a tuple is less than the next one."""
+    return all([one < other for one, other in zip(things, things[1:])])
+
+
+def put(things, place, thing):
+    """The tuple with another thing at this place."""
+    return things[:place] + (thing,) + things[place + 1:]
