@@ -1,4 +1,4 @@
-"""Letters of a turn, one behind the other, and how one house asks another by them."""
+"""How one house asks another: the letters that are sent, and what the asker makes of it."""
 
 from hearsaybook.letters import notes_of, taken
 from hearsaybook.plain import put
@@ -6,29 +6,21 @@ from hearsaybook.towns import target, ticks
 from hearsaybook.words import ALIVE, GONE, SUSPECT
 
 
-class Road:
-    """The letters that were sent in a turn, and the houses as they are behind these."""
+def posted(rules, town, state, x, y):
+    """The state when x has sent y a letter that isn't taken in, and the one when it is (None if y isn't up)."""
+    turn, houses = state
+    notes, told = notes_of(rules, town, state, x, y)
+    up, book, old, timers = houses[x]
+    missed = (turn, put(houses, x, (up, book, told, timers)))
+    if houses[y][0] == 0:
+        return (missed, None)
+    return (missed, with_house(missed, y, taken(rules, houses[y], y, notes)))
 
-    def __init__(self, rules, town, state, lost):
-        turn, houses = state
-        self.rules = rules
-        self.town = town
-        self.turn = turn
-        self.houses = list(houses)
-        self.lost = lost
-        self.letters = []
 
-    def sends(self, x, y):
-        """Whether y takes in the letter that x sends to it now."""
-        lost = len(self.letters) in self.lost
-        self.letters.append((x, y, lost))
-        notes, told = notes_of(self.rules, self.town, (self.turn, self.houses), x, y)
-        up, book, old, timers = self.houses[x]
-        self.houses[x] = (up, book, told, timers)
-        if lost or self.houses[y][0] == 0:
-            return False
-        self.houses[y] = taken(self.rules, self.houses[y], y, notes)
-        return True
+def with_house(state, at, house):
+    """The state with this house at its place."""
+    turn, houses = state
+    return (turn, put(houses, at, house))
 
 
 def asks_any(town, state, a):
@@ -58,23 +50,15 @@ def is_about(book, house):
     return mark < GONE
 
 
-def ask(road, a, b):
-    """Let a ask b, and keep what it makes of it."""
-    answered = is_answered(road, a, b)
-    road.houses[a] = judged(road.rules, road.houses[a], b, answered)
-
-
-def is_answered(road, a, b):
-    """Whether b answers a's letters, straight or through others."""
-    if road.sends(a, b) and road.sends(b, a):
-        return True
-    up, book, told, timers = road.houses[a]
-    if "others" not in road.rules[4] or not is_about(book, b):
-        return False
-    for h in helpers(road.rules, book, a, b):
-        if road.sends(a, h) and road.sends(h, b) and road.sends(b, h) and road.sends(h, a):
-            return True
-    return False
+def ways(rules, state, a, b):
+    """The ways by which a asks b, straight and through others, each the letters (from, to) that must come."""
+    # Until it is answered a takes in no letter: so its book tells ahead of the first one whom it asks through.
+    turn, houses = state
+    up, book, told, timers = houses[a]
+    found = [((a, b), (b, a))]
+    if "others" in rules[4] and is_about(book, b):
+        found += [((a, h), (h, b), (b, h), (h, a)) for h in helpers(rules, book, a, b)]
+    return found
 
 
 def helpers(rules, book, a, b):
@@ -84,18 +68,19 @@ def helpers(rules, book, a, b):
     return [h for h in behind if h != b and is_about(book, h)][:rules[0]]
 
 
-def judged(rules, house, b, answered):
-    """The house behind its asking of b."""
-    up, book, told, timers = house
-    if answered:
-        return (up, book, told, put(timers, b, 0))
+def judged(rules, state, a, b, answered):
+    """The state when a has kept whether b answered."""
+    turn, houses = state
+    up, book, told, timers = houses[a]
     number, mark = book[b]
-    if not is_about(book, b):
-        return house
-    if "wait" not in rules[4] or timers[b] == 1:
-        return (up, put(book, b, (number, GONE)), put(told, b, 0), put(timers, b, 0))
-    if timers[b] > 1:
-        return (up, book, told, put(timers, b, timers[b] - 1))
-    if mark == ALIVE:
-        book, told = put(book, b, (number, SUSPECT)), put(told, b, 0)
-    return (up, book, told, put(timers, b, rules[1]))
+    if answered:
+        timers = put(timers, b, 0)
+    elif mark < GONE and ("wait" not in rules[4] or timers[b] == 1):
+        book, told, timers = put(book, b, (number, GONE)), put(told, b, 0), put(timers, b, 0)
+    elif mark < GONE and timers[b] == 0:
+        if mark == ALIVE:
+            book, told = put(book, b, (number, SUSPECT)), put(told, b, 0)
+        timers = put(timers, b, rules[1])
+    elif mark < GONE:
+        timers = put(timers, b, timers[b] - 1)
+    return with_house(state, a, (up, book, told, timers))

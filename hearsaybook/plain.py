@@ -30,3 +30,12 @@ def rises(things):
 def put(things, place, thing):
     """The tuple with another thing at this place."""
     return things[:place] + (thing,) + things[place + 1:]
+
+
+def is_same(told, thing):
+    """Whether it is just what was told, of tuples, whole numbers and None; of anything as thing."""
+    if isinstance(told, tuple):
+        return is_tuple_of(thing, len(told)) and all([is_same(one, other) for one, other in zip(told, thing)])
+    if told is None:
+        return thing is None
+    return is_whole(thing) and thing == told

@@ -1,10 +1,32 @@
 """Turns: what comes of a state by its doings, and the letters that are sent."""
 
-from hearsaybook.askings import Road, ask, asked_in_order, asks_any, asks_now
+from hearsaybook.askings import asked_in_order, asks_any, asks_now, judged, posted, ways, with_house
 from hearsaybook.doings import is_doings
 from hearsaybook.errors import BadDoings
 from hearsaybook.plain import put
 from hearsaybook.words import ALIVE, LEFT
+
+
+class Road:
+    """The letters that were sent in a turn by now, and the state behind them."""
+
+    def __init__(self, rules, town, state, lost):
+        self.rules = rules
+        self.town = town
+        self.state = state
+        self.lost = lost
+        self.letters = []
+
+    def sends(self, x, y):
+        """Whether y takes in the letter that x sends to it now."""
+        lost = len(self.letters) in self.lost
+        self.letters.append((x, y, lost))
+        missed, came = posted(self.rules, self.town, self.state, x, y)
+        if lost or came is None:
+            self.state = missed
+            return False
+        self.state = came
+        return True
 
 
 def stepped(rules, town, state, doings):
@@ -15,12 +37,12 @@ def stepped(rules, town, state, doings):
     for x in leaves + comes:
         write_to_all(road, x)
     for x in leaves:
-        up, book, told, timers = road.houses[x]
-        road.houses[x] = (0, book, told, timers)
+        stop(road, x)
     for a in range(len(town)):
-        if asks_any(town, (turn, road.houses), a):
+        if asks_any(town, road.state, a):
             ask_all(road, a)
-    return ((turn + 1, tuple(road.houses)), tuple(road.letters))
+    turn, houses = road.state
+    return ((turn + 1, houses), tuple(road.letters))
 
 
 def done(houses, doings):
@@ -47,11 +69,36 @@ def write_to_all(road, x):
             road.sends(x, y)
 
 
+def stop(road, x):
+    """Let x be no longer up."""
+    turn, houses = road.state
+    up, book, told, timers = houses[x]
+    road.state = with_house(road.state, x, (0, book, told, timers))
+
+
 def ask_all(road, a):
-    """Let a ask its target and all for which it has a timer."""
-    for b in asked_in_order(road.town, road.turn, a):
-        if asks_now(road.rules, road.town, (road.turn, road.houses), a, b):
-            ask(road, a, b)
+    """Let a ask its target and all for which it has a timer, and keep what it makes of it."""
+    turn, houses = road.state
+    for b in asked_in_order(road.town, turn, a):
+        if asks_now(road.rules, road.town, road.state, a, b):
+            answered = is_answered(road, a, b)
+            road.state = judged(road.rules, road.state, a, b, answered)
+
+
+def is_answered(road, a, b):
+    """Whether b answers a's letters, straight or through others."""
+    for way in ways(road.rules, road.state, a, b):
+        if comes_through(road, way):
+            return True
+    return False
+
+
+def comes_through(road, way):
+    """Whether all letters of a way are taken in, one behind the other."""
+    for x, y in way:
+        if not road.sends(x, y):
+            return False
+    return True
 
 
 def walked(rules, town, state, row):

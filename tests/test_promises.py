@@ -8,9 +8,10 @@ from hearsaybook.bounds import gone_by, letters_most, safe_number
 from hearsaybook.doings import quiet
 from hearsaybook.rules import whole_rules, without
 from hearsaybook.states import begun
+from hearsaybook.stillness import shows_still, still_behind
 from hearsaybook.stories import counted
 from hearsaybook.turns import stepped, walked
-from hearsaybook.views import elder_in, gone_wrongly
+from hearsaybook.views import agrees, elder_in, gone_wrongly, views
 from tests.reckoned import Reckoned, clause_rows, some_cases, some_row, some_rules, some_town
 
 
@@ -184,6 +185,50 @@ class FewLetters(unittest.TestCase):
                 most = letters_most(rules, town, state, (lost, (), (), ()))
                 state, letters = stepped(rules, town, state, (lost, (), (), ()))
                 self.assertLessEqual(len(letters), most)
+
+
+
+class OneBook(unittest.TestCase):
+    """(e)"""
+
+    def test_the_books_become_one(self):
+        for rules, town, row in some_walks(71, 50, 25):
+            state = walked(rules, town, begun(rules, town), row)[0]
+            told = still_behind(rules, town, state)
+            self.assertIsNotNone(told)
+            number, behind = told
+            self.assertTrue(agrees(behind))
+            self.assertTrue(shows_still(rules, town, state, told))
+            self.assertEqual([house[0] for house in behind[1]], [house[0] for house in state[1]])
+
+    def test_once_and_for_good(self):
+        for rules, town, row in some_walks(72, 15, 20):
+            state = walked(rules, town, begun(rules, town), row)[0]
+            number, behind = still_behind(rules, town, state)
+            later = walked(rules, town, behind, (quiet(),) * 60)[0]
+            self.assertEqual(later[1], behind[1])
+            self.assertTrue(agrees(later))
+
+    def test_who_is_up_is_told_alive_who_is_not_gone_or_left(self):
+        # House 3 falls, 4 leaves; all letters of six turns are lost, so that all are told gone, wrongly or not.
+        for others, told, carry in itertools.product((0, 3), (0, 3), (0, 8)):
+            rules, town = whole_rules(others, 1, told, carry), ((1, 0), (2, 1), (3, 0), (1, 0), (1, 0))
+            row = (((), (3,), (4,), ()),) + ((tuple(range(90)), (), (), ()),) * 12
+            state = walked(rules, town, begun(rules, town), row)[0]
+            self.assertTrue(gone_wrongly(state))
+            number, behind = still_behind(rules, town, state)
+            self.assertEqual(views(behind), tuple((house, (0, 0, 0, 2, 3)) for house in range(3)))
+
+    def test_without_some_clauses_they_need_not(self):
+        chance, found = random.Random(73), {}
+        for clause in ("about", "again", "own", "refute"):
+            for _ in range(60):
+                rules = without(whole_rules(1, 1, 1, 1), clause)
+                town = some_town(chance, 3)
+                row = some_row(chance, rules, town, begun(rules, town), 15, 0.4, 0.05)
+                told = still_behind(rules, town, walked(rules, town, begun(rules, town), row)[0])
+                found[clause] = found.get(clause, False) or told is None or not agrees(told[1])
+        self.assertEqual(set(found.values()), {True}, found)
 
 
 if __name__ == "__main__":
