@@ -33,3 +33,13 @@ def are_houses(state, numbers, up):
     """Whether all are houses of the state, and each is up, or isn't, as asked."""
     turn, houses = state
     return all([number < len(houses) and houses[number][0] == up for number in numbers])
+
+
+def is_row_of_lost(thing):
+    """Whether it is a tuple of doings with lost alone; of anything."""
+    return isinstance(thing, tuple) and all([has_lost_alone(doings) for doings in thing])
+
+
+def has_lost_alone(thing):
+    """Whether it is doings in which nobody falls, leaves or comes; of anything."""
+    return is_tuple_of(thing, 4) and are_rising(thing[0]) and all([is_tuple_of(each, 0) for each in thing[1:]])

@@ -15,7 +15,7 @@ def shows_layers(rules, town, state, turns, lost, thing):
     if not all([is_layer(rules, town, lost, layer) for layer in thing]):
         return False
     found = [least_spent(layer) for layer in thing]
-    if found[0].get(state) != 0:
+    if state not in found[0] or found[0][state][0] != 0:
         return False
     return all([leads_on(rules, town, lost, one, other) for one, other in zip(found, found[1:])])
 
@@ -31,14 +31,14 @@ def is_spent(rules, town, lost, thing):
 
 
 def least_spent(layer):
-    """Each state of the layer with the least number it has there."""
+    """Each state of the layer with the least number it has there, as outcomes takes it."""
     found = {}
-    for many, state in layer:
-        keep_least(found, state, many)
+    for spent, state in layer:
+        keep_least(found, state, (spent, ()))
     return found
 
 
 def leads_on(rules, town, lost, layer, following):
     """Whether whatever comes of the one layer by a turn stands in the other one, with a number no greater."""
     due = outcomes(rules, town, layer, lost)
-    return all([state in following and following[state] <= many for state, many in due.items()])
+    return all([state in following and following[state][0] <= spent for state, (spent, row) in due.items()])

@@ -5,14 +5,17 @@ from hearsaybook.outcomes import outcomes
 
 def layers(rules, town, state, turns, lost):
     """For each number of turns, from 0 to turns, the rising tuple of (spent, state)."""
-    spent = {state: 0}
-    found = [in_order(spent)]
+    return in_order(spread(rules, town, state, turns, lost))
+
+
+def spread(rules, town, state, turns, lost):
+    """The list of the layers as dicts: each state with (spent, row), row one by which it comes so."""
+    found = [{state: (0, ())}]
     for turn in range(turns):
-        spent = outcomes(rules, town, spent, lost)
-        found.append(in_order(spent))
-    return tuple(found)
+        found.append(outcomes(rules, town, found[turn], lost))
+    return found
 
 
-def in_order(spent):
-    """The rising tuple of (spent, state)."""
-    return tuple(sorted([(many, state) for state, many in spent.items()]))
+def in_order(found):
+    """The layers as they are told, of those of spread."""
+    return tuple([tuple(sorted([(spent, state) for state, (spent, row) in layer.items()])) for layer in found])

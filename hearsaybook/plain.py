@@ -17,6 +17,12 @@ def is_between(thing, low, high):
     return is_whole(thing) and low <= thing <= high
 
 
+def is_text(thing, text):
+    """Whether it is this text."""
+    # Asked by == alone, an object that calls itself equal to all would pass.
+    return isinstance(thing, str) and thing == text
+
+
 def is_tuple_of(thing, length):
     """Whether it is a tuple of so many things."""
     return isinstance(thing, tuple) and len(thing) == length

@@ -119,3 +119,8 @@ def trail(rules, town, state, row):
         state, letters = stepped(rules, town, state, doings)
         steps.append((state, letters))
     return steps
+
+
+def lost_in(sent):
+    """How many letters were lost, of the letters of several turns."""
+    return len([lost for letters in sent for x, y, lost in letters if lost])

@@ -6,6 +6,9 @@ import unittest
 
 from hearsaybook.bounds import gone_by, letters_most, safe_number
 from hearsaybook.doings import quiet
+from hearsaybook.forever import forever, shows_forever
+from hearsaybook.latest import latest, shows_latest
+from hearsaybook.leastlost import least_lost, shows_least
 from hearsaybook.rules import whole_rules, without
 from hearsaybook.states import begun
 from hearsaybook.stillness import shows_still, still_behind
@@ -104,6 +107,32 @@ class NoneGoneWrongly(unittest.TestCase):
             self.assertFalse(gone_wrongly(walked(rules, town, begun(rules, town), tuple(row[:-1]))[0]))
 
 
+    def test_the_least_number_is_told_and_shown(self):
+        told = {}
+        for others, wait, town in itertools.product((0, 1), (1, 2), (((1, 0), (2, 1)), ((1, 0),) * 3)):
+            rules = whole_rules(others, wait, 1, 1)
+            for turns, lost in itertools.product((2, 4), range(safe_number(rules, town) + 1)):
+                found = least_lost(rules, town, turns, lost)
+                self.assertIs(shows_least(rules, town, turns, lost, found), True)
+                told[found[0]] = True
+                if lost < safe_number(rules, town):
+                    self.assertEqual(found[0], "none")
+        self.assertEqual(set(told), {"lost", "none"})
+
+    def test_none_however_long_it_goes_on(self):
+        chance = random.Random(42)
+        for rules, town, each in ((whole_rules(0, 2, 1, 1), ((1, 0), (1, 0)), 1),
+                                  (whole_rules(1, 2, 2, 1), ((1, 0),) * 3, 1), (whole_rules(0, 1, 0, 0), ((1, 0),) * 3, 0)):
+            word, paper = forever(rules, town, each, 400)
+            self.assertEqual(word, "safe")
+            self.assertIs(shows_forever(rules, town, each, paper), True)
+            state = begun(rules, town)
+            for _ in range(400):
+                lost = tuple(sorted(chance.sample(range(6), each)))
+                state = stepped(rules, town, state, (lost, (), (), ()))[0]
+                self.assertFalse(gone_wrongly(state))
+
+
 class ToldGone(unittest.TestCase):
     """(c)"""
 
@@ -157,6 +186,17 @@ class ToldGone(unittest.TestCase):
                 self.assertGreaterEqual(state[1][teller][1][house][1], 2)
 
 
+    def test_the_most_turns_are_told_and_shown(self):
+        for others, wait, town in itertools.product((0, 1), (1, 2), (((1, 0), (2, 1)), ((2, 1), (1, 0), (2, 0)))):
+            rules = whole_rules(others, wait, 1, 1)
+            for house, lost in itertools.product(range(len(town)), range(3)):
+                told = latest(rules, town, house, 6, lost)
+                self.assertIs(shows_latest(rules, town, house, 6, lost, told), True)
+                # No newer word of a house that fell at the start comes but suspect and gone: so the turns hold here, too.
+                most = max(gone_by(rules, town, other) for other in range(len(town)) if other != house)
+                self.assertLess(told[0], most)
+
+
 class FewLetters(unittest.TestCase):
     """(d)"""
 
@@ -185,7 +225,6 @@ class FewLetters(unittest.TestCase):
                 most = letters_most(rules, town, state, (lost, (), (), ()))
                 state, letters = stepped(rules, town, state, (lost, (), (), ()))
                 self.assertLessEqual(len(letters), most)
-
 
 
 class OneBook(unittest.TestCase):
