@@ -5,14 +5,18 @@ import random
 import unittest
 
 from hearsaybook.bounds import gone_by, letters_most, safe_number
+from hearsaybook.breaklooks import shows_break
+from hearsaybook.breaks import breaks, example
+from hearsaybook.desk import Desk
 from hearsaybook.doings import quiet
 from hearsaybook.forever import forever, shows_forever
 from hearsaybook.latest import latest, shows_latest
 from hearsaybook.leastlost import least_lost, shows_least
-from hearsaybook.rules import whole_rules, without
+from hearsaybook.rules import CLAUSES, whole_rules, without
 from hearsaybook.states import begun
 from hearsaybook.stillness import shows_still, still_behind
 from hearsaybook.stories import counted
+from hearsaybook.texts import read_row, read_rules, read_town, show_row, show_rules, show_town, show_views
 from hearsaybook.turns import stepped, walked
 from hearsaybook.views import agrees, elder_in, gone_wrongly, views
 from tests.reckoned import Reckoned, clause_rows, some_cases, some_row, some_rules, some_town
@@ -268,6 +272,60 @@ class OneBook(unittest.TestCase):
                 told = still_behind(rules, town, walked(rules, town, begun(rules, town), row)[0])
                 found[clause] = found.get(clause, False) or told is None or not agrees(told[1])
         self.assertEqual(set(found.values()), {True}, found)
+
+
+class BrokenPromises(unittest.TestCase):
+    """(f)"""
+
+    def test_with_one_clause_left_out_one_of_these_breaks(self):
+        for clause in CLAUSES:
+            rules, town, (what, row) = example(clause)
+            self.assertEqual(rules, without(whole_rules(*rules[:4]), clause))
+            self.assertIs(shows_break(rules, town, (what, row)), True)
+            self.assertIs(shows_break(whole_rules(*rules[:4]), town, (what, row)), False)
+
+    def test_what_breaks_is_one_of_these(self):
+        for clause in CLAUSES:
+            rules, town, (what, row) = example(clause)
+            ahead, behind = [walked(rules, town, begun(rules, town), some)[0] for some in (row[:-1], row)]
+            lost = sum(missed for sent, missed in counted(rules, town, row))
+            if what == "elder":
+                self.assertIsNotNone(elder_in(ahead, behind))
+            elif what == "gone":
+                self.assertTrue(gone_wrongly(behind))
+                self.assertLess(lost, safe_number(rules, town))
+            else:
+                told = still_behind(rules, town, behind)
+                self.assertTrue(told is None or not agrees(told[1]))
+
+    def test_of_whole_rules_there_is_no_break(self):
+        for others, town in itertools.product((0, 1), (((1, 0), (1, 0)), ((1, 0), (2, 1)), ((1, 0), (2, 1), (2, 0)))):
+            self.assertIsNone(breaks(whole_rules(others, 1, 1, 1), town, 3, 2))
+        for rules, town, row in some_walks(81, 40, 6):
+            lost = tuple((doings[0], (), (), ()) for doings in row)
+            for what in ("gone", "elder", "apart"):
+                self.assertIs(shows_break(rules, town, (what, lost)), False)
+
+
+class WrittenAndRead(unittest.TestCase):
+    """(g)"""
+
+    def test_what_is_written_is_read_as_it_was(self):
+        for rules, town, row in some_walks(91, 60, 12):
+            self.assertEqual(read_rules(show_rules(rules)), rules)
+            self.assertEqual(read_town(show_town(town)), town)
+            self.assertEqual(read_row(show_row(row)), row)
+
+    def test_a_desk_answers_as_all_these_do(self):
+        for rules, town, row in some_walks(92, 20, 10):
+            desk, state = Desk(show_rules(rules) + "\n" + show_town(town)), begun(rules, town)
+            for doings in row:
+                state, letters = stepped(rules, town, state, doings)
+                self.assertEqual(desk.say("turn " + show_row((doings,))).count(">"), len(letters))
+                self.assertEqual(desk.say("views"), show_views(state))
+            number, still = still_behind(rules, town, state)
+            self.assertEqual(desk.say("still"), f"{number} {show_views(still)}")
+            self.assertEqual(desk.say("bounds").split(" ")[0], str(safe_number(rules, town)))
 
 
 if __name__ == "__main__":
